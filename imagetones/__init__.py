@@ -1,0 +1,1 @@
+"""What a receiver with mixers hears."""

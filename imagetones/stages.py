@@ -1,0 +1,30 @@
+"""What one stage, and what the sampler, makes of one number."""
+
+
+def mixing_tone(stage, dial):
+    """The tone to which a mixer or a dial stage takes the distance; None of a pass."""
+    if stage[0] == "mix":
+        return stage[1]
+    if stage[0] == "dial":
+        return dial + stage[1]
+    return None
+
+
+def behind_stage(stage, dial, number):
+    """The number behind a stage, None for silence, which stays silence."""
+    if number is None:
+        return None
+    center = mixing_tone(stage, dial)
+    if center is not None:
+        return abs(number - center)
+    if stage[1] <= number <= stage[2]:
+        return number
+    return None
+
+
+def behind_sampler(rate, number):
+    """The number behind the sampler, None for silence."""
+    if number is None:
+        return None
+    above = number % rate
+    return min(above, rate - above)

@@ -1,0 +1,111 @@
+"""The examples of the document, word for word, carried out and compared with what stands below them."""
+
+import unittest
+
+from imagetones import errors
+
+DEFINITIONS = '''
+>>> from imagetones.receivers import tone_at
+>>> plain, sampled = ([("mix", 5), ("mix", 2)], None), ([("mix", 5), ("mix", 2)], 4)
+>>> [[tone_at(receiver, 0, signal) for signal in range(10)] for receiver in (plain, sampled)]
+[[3, 2, 1, 0, 1, 2, 1, 0, 1, 2], [1, 2, 1, 0, 1, 2, 1, 0, 1, 2]]
+>>> tuned = ([("dial", 0), ("pass", 3, 6), ("mix", 4)], None)
+>>> [tone_at(tuned, 10, signal) for signal in range(3, 9)]
+[None, 2, 1, 0, 1, None]
+'''
+
+RECEIVERS = '''
+>>> from imagetones.receivers import is_receiver, stage_tones, tone_at
+>>> [is_receiver(value) for value in [([("mix", 5)], None), ([("dial", -3), ("pass", 0, 9)], 2), ([], 4), ([("mix", -1)], None), ([("dial", 0), ("dial", 1)], 4), ([("mix", 5)], 1)]]
+[True, True, False, False, False, False]
+>>> [stage_tones(([("mix", 5), ("mix", 2)], 4), 0, 11), stage_tones(([("dial", 0), ("pass", 3, 6), ("mix", 4)], 7), 10, 5), stage_tones(([("dial", 0), ("pass", 3, 6), ("mix", 4)], 7), 10, 8)]
+[[6, 4, 0], [5, 5, 1, 1], [2, None, None, None]]
+>>> [tone_at(([("mix", 10 ** 29), ("dial", 5)], None), -8, 10 ** 28), tone_at(([("mix", 0)], 7), 0, 10 ** 30 - 1)]
+[90000000000000000000000000003, 0]
+
+>>> from imagetones.receivers import tone_at
+>>> tone_at(([("dial", 0), ("dial", 1)], 4), 0, 0)
+raises InvalidReceiver(index=1)
+
+>>> from imagetones.receivers import tone_at
+>>> tone_at(([("mix", 5)], 1), 0, 0)
+raises InvalidReceiver(index=1)
+'''
+
+SLOPES = '''
+>>> from imagetones.slopes import count_slopes, mixed_slopes, nth_slope, slopes_at
+>>> plain, sampled, odd = ([("mix", 5), ("mix", 2)], None), ([("mix", 5), ("mix", 2)], 4), ([("mix", 5), ("mix", 2)], 5)
+>>> mixed_slopes(plain, 0), mixed_slopes(sampled, 0) == mixed_slopes(plain, 0)
+([(0, 3, 3, -1), (3, 5, 0, 1), (5, 7, 2, -1), (7, None, 0, 1)], True)
+>>> mixed_slopes(([("dial", 0), ("pass", 3, 6), ("mix", 4)], None), 10)
+[(4, 6, 2, -1), (6, 7, 0, 1), (13, 14, 1, -1), (14, 16, 0, 1)]
+>>> [nth_slope(sampled, 0, index) for index in (0, 1, 2, 10 ** 29)]
+[(0, 1, 1, 1), (1, 3, 2, -1), (3, 5, 0, 1), (199999999999999999999999999999, 200000000000000000000000000001, 0, 1)]
+>>> [nth_slope(odd, 0, index) for index in (0, 3, 4)], nth_slope(plain, 0, 4)
+([(1, 3, 2, -1), (7, 9, 0, 1), (10, 12, 2, -1)], None)
+>>> [count_slopes(sampled, 0, far) for far in (0, 1, 2, 10 ** 29)], [slopes_at(odd, 0, signal) for signal in (0, 2, 3)]
+([1, 2, 2, 50000000000000000000000000001], [[], [(1, 3, 2, -1)], [(1, 3, 2, -1), (3, 5, 0, 1)]])
+'''
+
+
+def told_error(error):
+    """An error as the document tells it: its name, and its fields in brackets."""
+    fields = ", ".join(f"{name}={value!r}" for name, value in vars(error).items())
+    return type(error).__name__ + (f"({fields})" if fields else "")
+
+
+def answer_of(line, names):
+    """What the document tells below a line: nothing for a statement, `raises` .. for an error."""
+    try:
+        code = compile(line, "example", "eval")
+    except SyntaxError:
+        exec(line, names)
+        return ""
+    try:
+        return repr(eval(code, names))
+    except errors.ToneError as error:
+        return "raises " + told_error(error)
+
+
+def examples_of(text):
+    """Pairs of a line and the answer below it; an empty line begins anew and stands as None."""
+    pairs = []
+    for line in text.strip().split("\n"):
+        if line.startswith(">>> "):
+            pairs.append((line[4:], ""))
+        elif not line:
+            pairs.append((None, ""))
+        else:
+            pairs[-1] = (pairs[-1][0], line)
+    return pairs
+
+
+class Examples(unittest.TestCase):
+    def carry_out(self, text):
+        names = {}
+        for line, answer in examples_of(text):
+            if line is None:
+                names = {}
+            else:
+                with self.subTest(line):
+                    self.assertEqual(answer_of(line, names), answer)
+
+    def test_definitions(self):
+        self.carry_out(DEFINITIONS)
+
+    def test_receivers(self):
+        self.carry_out(RECEIVERS)
+
+    def test_slopes(self):
+        self.carry_out(SLOPES)
+
+    def test_the_runner_sees_wrong_answers(self):
+        pairs = examples_of(">>> 1 + 1\n3\n\n>>> x = 4\n>>> x\n4\n")
+        self.assertEqual(pairs, [("1 + 1", "3"), (None, ""), ("x = 4", ""), ("x", "4")])
+        self.assertEqual(answer_of("1 + 1", {}), "2")
+        self.assertEqual(told_error(errors.InvalidReceiver(1)), "InvalidReceiver(index=1)")
+        self.assertEqual(told_error(errors.Impossible("why")), "Impossible")
+
+
+if __name__ == "__main__":
+    unittest.main()
