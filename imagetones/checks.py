@@ -1,6 +1,8 @@
 """What is a right argument, and the errors of wrong ones."""
 
-from imagetones.errors import InvalidDial, InvalidNumber, InvalidReceiver, InvalidSignal
+from imagetones.errors import (Impossible, InvalidBand, InvalidDial, InvalidNumber, InvalidReceiver, InvalidSignal,
+                               InvalidTone)
+from imagetones.stages import dial_place
 
 MOST_STAGES = 8
 LEAST_RATE = 2
@@ -78,7 +80,31 @@ def check_signal(signal):
         raise InvalidSignal("a signal is an integer from 0 on")
 
 
+def check_band(band):
+    """Raise InvalidBand unless this is a band."""
+    if not is_band(band):
+        raise InvalidBand("a band is a tuple of two integers from 0 on, the least and the greatest tone")
+
+
+def check_tone(tone):
+    """Raise InvalidTone unless this is an integer from 0 on."""
+    if not is_natural(tone):
+        raise InvalidTone("a tone is an integer from 0 on")
+
+
 def check_natural(number):
     """Raise InvalidNumber unless this is an integer from 0 on."""
     if not is_natural(number):
         raise InvalidNumber("this number is an integer from 0 on")
+
+
+def check_order(least, greatest):
+    """Raise InvalidNumber if the greatest of these dials is less than the least one."""
+    if greatest < least:
+        raise InvalidNumber("the greatest dial is less than the least one")
+
+
+def check_dial_stage(receiver):
+    """Raise Impossible unless a stage of this receiver is a dial."""
+    if dial_place(receiver[0]) is None:
+        raise Impossible("this receiver has no dial")

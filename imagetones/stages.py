@@ -10,6 +10,14 @@ def mixing_tone(stage, dial):
     return None
 
 
+def dial_place(stages):
+    """The index of the dial stage, None if there is none."""
+    for index, stage in enumerate(stages):
+        if stage[0] == "dial":
+            return index
+    return None
+
+
 def behind_stage(stage, dial, number):
     """The number behind a stage, None for silence, which stays silence."""
     if number is None:

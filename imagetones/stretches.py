@@ -22,18 +22,36 @@ def stretches_at(stages, dial):
     return stretches
 
 
+def parted_stretches(stages, dial):
+    """The stretches without shared signals: each one is left to the second stretch that has it."""
+    stretches = stretches_at(stages, dial)
+    parted = []
+    for index, (least, greatest, number, way) in enumerate(stretches):
+        is_shared = index + 1 < len(stretches) and stretches[index + 1][0] == greatest
+        parted.append((least, greatest - 1 if is_shared else greatest, number, way))
+    return parted
+
+
 def signal_of(stretch, number):
     """The signal that makes a number, if the stretch went on both ways."""
     least, _, start, way = stretch
     return least + way * (number - start)
 
 
+def number_of(stretch, signal):
+    """The number that a signal of a stretch makes."""
+    least, _, number, way = stretch
+    return number + way * (signal - least)
+
+
 def cut_to_signals(stretch, low, high):
-    """The part of a stretch with the signals from low to high; None if it has none."""
+    """The part of a stretch with the signals from low to high (None: all); None if it has none."""
     least, greatest, number, way = stretch
     first = max(least, low)
-    last = high if greatest is None else min(greatest, high)
-    if first > last:
+    last = greatest
+    if greatest is None or (high is not None and high < greatest):
+        last = high
+    if last is not None and first > last:
         return None
     return (first, last, number + way * (first - least), way)
 

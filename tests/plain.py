@@ -98,3 +98,23 @@ def great_receivers(seed, many, rates=(None, 2, 3, 10 ** 29, 10 ** 29 + 1, 10 **
         dial = source.randint(-10 ** 39, 10 ** 39)
         pairs.append(((stages, source.choice(rates)), dial))
     return pairs
+
+
+def is_in(band, tone):
+    """Whether a tone, or silence, is in a band."""
+    return tone is not None and band[0] <= tone <= band[1]
+
+
+def some_bands(source, rate, many):
+    """Some bands with small tones, and those at the ends of what the sampler makes."""
+    half = (rate or 9) // 2
+    bands = [(0, 0), (half, half), (0, half), (half, half + 3), (half + 1, half + 9), (0, 99)]
+    for _ in range(many):
+        least = source.randint(0, 9)
+        bands.append((least, least + source.choice([0, 0, 1, 2, 5])))
+    return source.sample(bands, many)
+
+
+def moved_far(source, receiver, most_stages=7):
+    """The receiver behind one more mixer, so that its first turns lie at the signals around BIG."""
+    return ([("mix", BIG + source.randint(0, 9))] + receiver[0][:most_stages], receiver[1])

@@ -47,6 +47,77 @@ SLOPES = '''
 ([1, 2, 2, 50000000000000000000000000001], [[], [(1, 3, 2, -1)], [(1, 3, 2, -1), (3, 5, 0, 1)]])
 '''
 
+HEARD = '''
+>>> from imagetones.heard import count_heard, last_heard, next_heard, nth_heard
+>>> plain, sampled = ([("mix", 5), ("mix", 2)], None), ([("mix", 5), ("mix", 2)], 4)
+>>> [next_heard(plain, 0, (2, 3), signal) for signal in (0, 1, 2, 6, 10, 11)]
+[0, 1, 5, 9, 10, None]
+>>> [next_heard(sampled, 0, (0, 0), signal) for signal in (0, 4, 8, 10 ** 29)], last_heard(sampled, 0, (0, 0), 10 ** 29)
+([3, 7, 11, 100000000000000000000000000003], 99999999999999999999999999999)
+>>> [last_heard(plain, 0, (0, 0), signal) for signal in (2, 3, 6, 10 ** 29)]
+[None, 3, 3, 7]
+>>> [count_heard(plain, 0, (0, 1), far) for far in (0, 4, 8, 99)], count_heard(sampled, 0, (2, 2), 10 ** 29)
+([0, 3, 6, 6], 25000000000000000000000000000)
+>>> [nth_heard(plain, 0, (0, 1), index) for index in (0, 5, 6)], nth_heard(sampled, 0, (0, 0), 10 ** 29)
+([2, 8, None], 400000000000000000000000000003)
+
+>>> from imagetones.heard import count_heard, next_heard
+>>> tuned = ([("dial", 0), ("pass", 3, 6), ("mix", 4)], None)
+>>> [next_heard(tuned, dial, (0, 0), 0) for dial in (10, 4, -3, -4, -5)], count_heard(tuned, 10, (0, 9), 10 ** 29)
+([6, 0, 1, 0, None], 8)
+'''
+
+IMAGES = '''
+>>> from imagetones.images import image_count, image_rows, next_image
+>>> plain, sampled = ([("mix", 5), ("mix", 2)], None), ([("mix", 5), ("mix", 2)], 4)
+>>> [image_rows(plain, 0, tone) for tone in (0, 2, 9)]
+[[(3, 1, 1), (7, 1, 1)], [(1, 1, 1), (5, 1, 1), (9, 1, 1)], [(16, 1, 1)]]
+>>> [image_rows(sampled, 0, tone) for tone in (0, 1, 3)]
+[[(3, 1, 1), (7, 4, None)], [(0, 1, 1), (2, 1, 1), (4, 1, 1), (6, 1, 1), (8, 4, None), (10, 4, None)], []]
+>>> image_rows(([("mix", 20)], 5), 0, 0), image_rows(([("mix", 0), ("pass", 0, 9)], 4), 0, 1)
+([(0, 5, 4), (20, 5, None)], [(1, 4, 3), (3, 4, 2)])
+>>> [image_count(plain, 0, 1, far) for far in (0, 5, 99)], image_count(sampled, 0, 3, 10 ** 29)
+([0, 2, 3], 25000000000000000000000000000)
+>>> [next_image(plain, 0, signal) for signal in (1, 5, 9)], next_image(sampled, 0, 10 ** 29)
+([5, 9, None], 100000000000000000000000000002)
+>>> next_image(([("pass", 3, 6)], None), 0, 2)
+raises Impossible
+'''
+
+ALIKE = '''
+>>> from imagetones.alike import first_unlike, next_unlike
+>>> plain, sampled = ([("mix", 5), ("mix", 2)], None), ([("mix", 5), ("mix", 2)], 4)
+>>> [first_unlike(plain, sampled, 0), next_unlike(plain, sampled, 0, 1), first_unlike(plain, ([("mix", 5), ("mix", 2), ("mix", 0)], None), 0)]
+[0, 10, None]
+>>> [first_unlike(([("mix", 0)], 4), ([("mix", 0)], 6), 0), first_unlike(([("mix", 0)], 10 ** 29), ([("mix", 0)], 10 ** 29 + 2), 0)]
+[3, 50000000000000000000000000001]
+>>> first_unlike(([("mix", 3)], None), ([("mix", 3), ("pass", 0, 10 ** 29)], None), 0) == 10 ** 29 + 4
+True
+>>> [first_unlike(([("mix", 9)], None), ([("dial", 1)], None), dial) for dial in (8, -10, 7)]
+[None, 1, 0]
+
+>>> from imagetones.alike import idle_stages, trimmed_receiver
+>>> wide = ([("mix", 0), ("mix", 5), ("pass", 0, 9), ("pass", 0, 20)], None)
+>>> [idle_stages(wide, 0), trimmed_receiver(wide, 0)]
+[[0, 3], ([('mix', 5), ('pass', 0, 9)], None)]
+>>> twice = ([("pass", 0, 9), ("pass", 0, 9)], 3)
+>>> [idle_stages(twice, 0), trimmed_receiver(twice, 0), trimmed_receiver(([("mix", 0), ("mix", 0)], None), 0)]
+[[0, 1], ([('pass', 0, 9)], 3), ([('mix', 0)], None)]
+>>> [idle_stages(([("mix", 6), ("dial", 0)], 6), dial) for dial in (0, 2, 3, 6)]
+[[0, 1], [], [0], [0, 1]]
+'''
+
+DIALS = '''
+>>> from imagetones.dials import count_dials, last_dial, next_dial
+>>> passed, plain = ([("dial", 0), ("pass", 3, 6), ("mix", 4)], None), ([("dial", 0)], 4)
+>>> [next_dial(passed, 10, (0, 0), dial) for dial in (0, 6, 7, 15)]
+[6, 6, 14, None]
+>>> [last_dial(passed, 10, (1, 2), 100), last_dial(passed, 10, (0, 9), 3), count_dials(passed, 10, (0, 1), -100, 100)]
+[16, None, 6]
+>>> [next_dial(plain, 10, (2, 2), 1), last_dial(plain, 10, (2, 2), -1), count_dials(plain, 10, (2, 2), -10 ** 30, 10 ** 30)]
+[4, -4, 500000000000000000000000000001]
+'''
+
 
 def told_error(error):
     """An error as the document tells it: its name, and its fields in brackets."""
@@ -98,6 +169,18 @@ class Examples(unittest.TestCase):
 
     def test_slopes(self):
         self.carry_out(SLOPES)
+
+    def test_heard_signals(self):
+        self.carry_out(HEARD)
+
+    def test_images(self):
+        self.carry_out(IMAGES)
+
+    def test_two_receivers(self):
+        self.carry_out(ALIKE)
+
+    def test_dials(self):
+        self.carry_out(DIALS)
 
     def test_the_runner_sees_wrong_answers(self):
         pairs = examples_of(">>> 1 + 1\n3\n\n>>> x = 4\n>>> x\n4\n")

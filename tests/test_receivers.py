@@ -9,20 +9,10 @@ from imagetones.errors import InvalidDial, InvalidReceiver, InvalidSignal
 from imagetones.receivers import is_receiver, stage_tones, tone_at
 from plain import (BIG, WRONG_INTEGERS, WRONG_NATURALS, beyond_turns, great_receivers, plain_stage_tones,
                    small_receivers)
+from wrong import Strange
 
 RIGHT_STAGES = [("mix", 0), ("mix", 5), ("mix", BIG), ("dial", 0), ("dial", -7), ("dial", -BIG),
                 ("pass", 0, 0), ("pass", 3, 3), ("pass", 0, BIG)]
-
-
-class Strange:
-    """A value that cannot be compared."""
-
-    def __eq__(self, other):
-        raise AssertionError("compared")
-
-    __hash__ = None
-
-
 WRONG_STAGES = [
     None, 5, True, "mix", b"mix", "m5", {}, Strange(), (), ("mix",), ("dial",), ("pass",), ("pass", 3), ["mix", 5],
     ["dial", 0], ["pass", 0, 9], ("mix", 5, 6), ("dial", 0, 0), ("pass", 0, 9, 9), ("mix", -1), ("mix", True),

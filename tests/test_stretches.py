@@ -3,7 +3,8 @@
 import unittest
 
 from imagetones.folds import first_fold_to, fold_ends, fold_way, last_fold_from
-from imagetones.stretches import cut_to_numbers, cut_to_signals, signal_of, stretches_at
+from imagetones.stretches import (cut_to_numbers, cut_to_signals, number_of, parted_stretches, signal_of,
+                                  stretches_at)
 from plain import beyond_turns, nearest_multiple_distance, plain_tone, small_receivers
 
 
@@ -33,8 +34,20 @@ class Stretches(unittest.TestCase):
         for stages in ([("pass", 5, 5)], [("mix", 5), ("pass", 0, 0)], [("mix", 5), ("pass", 0, 0), ("mix", 3)]):
             self.assertEqual([stretch[:2] for stretch in stretches_at(stages, 0)], [(5, 5)])
 
+    def test_parted_stretches_share_no_signal(self):
+        for (stages, _), dial in small_receivers(32, 300):
+            stretches, parted = stretches_at(stages, dial), parted_stretches(stages, dial)
+            self.assertEqual([part[0] for part in parted], [stretch[0] for stretch in stretches])
+            end = beyond_turns((stages, None), dial) + 3
+            told = [pair for part in parted for pair in numbers_of(part, end).items()]
+            tones = [plain_tone((stages, None), dial, signal) for signal in range(end + 1)]
+            self.assertEqual(told, [(signal, tone) for signal, tone in enumerate(tones) if tone is not None])
+
     def test_cuts(self):
         up, down = (4, None, 10, 1), (4, 9, 8, -1)
+        self.assertEqual([number_of(up, 4), number_of(up, 7), number_of(down, 4), number_of(down, 9)], [10, 13, 8, 3])
+        self.assertEqual([cut_to_signals(up, 6, None), cut_to_signals(down, 6, None), cut_to_signals(down, 10, None)],
+                         [(6, None, 12, 1), (6, 9, 6, -1), None])
         self.assertEqual([signal_of(up, 12), signal_of(up, 7), signal_of(down, 8), signal_of(down, 3)], [6, 1, 4, 9])
         self.assertEqual([cut_to_signals(up, 6, 8), cut_to_signals(up, 0, 4)], [(6, 8, 12, 1), (4, 4, 10, 1)])
         self.assertEqual([cut_to_signals(down, 6, 99), cut_to_signals(down, 10, 12)], [(6, 9, 6, -1), None])
