@@ -1,10 +1,12 @@
 """What is a right argument, and the errors of wrong ones."""
 
-from imagetones.errors import (Impossible, InvalidBand, InvalidDial, InvalidNumber, InvalidReceiver, InvalidSignal,
-                               InvalidTone)
+from imagetones.errors import (Impossible, InvalidBand, InvalidDial, InvalidLooks, InvalidNumber, InvalidReceiver,
+                               InvalidSignal, InvalidSignals, InvalidTone)
 from imagetones.stages import dial_place
 
 MOST_STAGES = 8
+MOST_SIGNALS = 4
+MOST_LOOKS = 6
 LEAST_RATE = 2
 
 
@@ -44,6 +46,15 @@ def is_rate(value):
     return value is None or (is_integer(value) and value >= LEAST_RATE)
 
 
+def is_look(value):
+    """Whether a value is a look: a dial and a band, or a dial and None twice for silence."""
+    if not isinstance(value, tuple) or len(value) != 3:
+        return False
+    dial, least, greatest = value
+    is_silence = least is None and greatest is None
+    return is_integer(dial) and (is_silence or is_band((least, greatest)))
+
+
 def _is_frame(value):
     """Whether a value has the outer form of a receiver, whatever its stages and its rate are."""
     if not isinstance(value, tuple) or len(value) != 2:
@@ -80,6 +91,24 @@ def check_signal(signal):
         raise InvalidSignal("a signal is an integer from 0 on")
 
 
+def check_signals(signals):
+    """Raise InvalidSignals unless this is a list of 1 to 4 signals."""
+    if not isinstance(signals, list) or not 1 <= len(signals) <= MOST_SIGNALS:
+        raise InvalidSignals(None)
+    for index, signal in enumerate(signals):
+        if not is_natural(signal):
+            raise InvalidSignals(index)
+
+
+def check_looks(looks):
+    """Raise InvalidLooks unless this is a list of 1 to 6 looks."""
+    if not isinstance(looks, list) or not 1 <= len(looks) <= MOST_LOOKS:
+        raise InvalidLooks(None)
+    for index, look in enumerate(looks):
+        if not is_look(look):
+            raise InvalidLooks(index)
+
+
 def check_band(band):
     """Raise InvalidBand unless this is a band."""
     if not is_band(band):
@@ -96,6 +125,12 @@ def check_natural(number):
     """Raise InvalidNumber unless this is an integer from 0 on."""
     if not is_natural(number):
         raise InvalidNumber("this number is an integer from 0 on")
+
+
+def check_step(step):
+    """Raise InvalidNumber unless this is an integer other than 0."""
+    if not is_integer(step) or step == 0:
+        raise InvalidNumber("a step is an integer other than 0")
 
 
 def check_order(least, greatest):

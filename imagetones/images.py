@@ -2,10 +2,10 @@
 
 from imagetones.checks import check_dial, check_natural, check_receiver, check_signal, check_tone
 from imagetones.errors import Impossible
-from imagetones.finding import count_along, count_to, first_from, signal_along
+from imagetones.pieces import band_pieces, count_along, count_to, first_from, number_pieces, place_along
 from imagetones.receivers import tone_at
+from imagetones.spans import tone_spans
 from imagetones.stretches import parted_stretches
-from imagetones.wanted import wanted_numbers
 
 
 def image_rows(receiver, dial, tone):
@@ -13,27 +13,29 @@ def image_rows(receiver, dial, tone):
     check_receiver(receiver)
     check_dial(dial)
     check_tone(tone)
-    spans, rate = wanted_numbers((tone, tone), receiver[1])
-    # Each span of one tone is one number or remainder, and so one row on each stretch.
-    rows = [_row_along(stretch, ([span], rate))
-            for stretch in parted_stretches(receiver[0], dial) for span in spans]
-    found = [row for row in rows if row is not None]
-    return sorted(found, key=lambda row: row[0])
+    stretches = parted_stretches(receiver[0], dial)
+    rate = receiver[1]
+    if rate is None:
+        pieces = band_pieces(stretches, None, (tone, tone))
+    else:
+        # Each span of one tone is one remainder, and so one row on each stretch.
+        pieces = [piece for span in tone_spans((tone, tone), rate)
+                  for piece in number_pieces(stretches, rate, [span])]
+    rows = [_row_of(piece) for piece in pieces if count_along(piece) != 0]
+    return sorted(rows, key=lambda row: row[0])
 
 
 def image_count(receiver, dial, signal, far):
     """How many of the signals from 0 to `far` have the same tone as this signal."""
     _check_place(receiver, dial, signal)
     check_natural(far)
-    stretches, wanted = _images(receiver, dial, signal)
-    return count_to(stretches, wanted, far)
+    return count_to(_images(receiver, dial, signal), far)
 
 
 def next_image(receiver, dial, signal):
     """The least greater signal with the same tone, None if there is none."""
     _check_place(receiver, dial, signal)
-    stretches, wanted = _images(receiver, dial, signal)
-    return first_from(stretches, wanted, signal + 1)
+    return first_from(_images(receiver, dial, signal), signal + 1)
 
 
 def _check_place(receiver, dial, signal):
@@ -42,17 +44,15 @@ def _check_place(receiver, dial, signal):
     check_signal(signal)
 
 
-def _row_along(stretch, wanted):
-    """The row of the signals of a stretch that make wanted numbers; None if there are none."""
-    many = count_along(stretch, wanted)
-    if many == 0:
-        return None
-    return (signal_along(stretch, wanted, 0), 1 if many == 1 else wanted[1], many)
+def _row_of(piece):
+    """The row of the signals of a piece that has one remainder."""
+    many = count_along(piece)
+    return (place_along(piece, 0), 1 if many == 1 else piece[3], many)
 
 
 def _images(receiver, dial, signal):
-    """The stretches and the wanted numbers of the signals with the same tone."""
+    """The pieces of the signals with the same tone."""
     tone = tone_at(receiver, dial, signal)
     if tone is None:
         raise Impossible("this signal is not heard")
-    return (parted_stretches(receiver[0], dial), wanted_numbers((tone, tone), receiver[1]))
+    return band_pieces(parted_stretches(receiver[0], dial), receiver[1], (tone, tone))

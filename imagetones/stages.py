@@ -30,9 +30,22 @@ def behind_stage(stage, dial, number):
     return None
 
 
+def behind_stages(stages, dial, number):
+    """The number behind all stages, None for silence."""
+    for stage in stages:
+        number = behind_stage(stage, dial, number)
+    return number
+
+
 def behind_sampler(rate, number):
-    """The number behind the sampler, None for silence."""
-    if number is None:
-        return None
+    """The number behind the sampler, if there is one (rate None: there is none); None for silence."""
+    if number is None or rate is None:
+        return number
     above = number % rate
     return min(above, rate - above)
+
+
+def tone_behind(receiver, dial, signal):
+    """The tone of a signal by a receiver, None for silence."""
+    stages, rate = receiver
+    return behind_sampler(rate, behind_stages(stages, dial, signal))

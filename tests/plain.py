@@ -118,3 +118,28 @@ def some_bands(source, rate, many):
 def moved_far(source, receiver, most_stages=7):
     """The receiver behind one more mixer, so that its first turns lie at the signals around BIG."""
     return ([("mix", BIG + source.randint(0, 9))] + receiver[0][:most_stages], receiver[1])
+
+
+def with_dial(source, receiver):
+    """The receiver, with a dial stage put somewhere if it has none."""
+    stages = list(receiver[0])
+    if all(stage[0] != "dial" for stage in stages):
+        stages = stages[:7]
+        stages.insert(source.randint(0, len(stages)), ("dial", source.randint(-9, 9)))
+    return (stages, receiver[1])
+
+
+def beyond_dials(receiver, signal):
+    """A number up to which, and down to its negative, all turns of the dials lie."""
+    return signal + sum([abs(part) + 1 for stage in receiver[0] for part in stage[1:]]) + 1
+
+
+def fits_look(receiver, look, signal):
+    """Whether a signal fits one look."""
+    dial, least, greatest = look
+    tone = plain_tone(receiver, dial, signal)
+    return tone is None if least is None else is_in((least, greatest), tone)
+
+
+def fits_looks(receiver, looks, signal):
+    return all(fits_look(receiver, look, signal) for look in looks)

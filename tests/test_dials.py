@@ -6,26 +6,13 @@ import random
 import unittest
 
 from imagetones.dials import count_dials, last_dial, next_dial
-from plain import BIG, WRONG_INTEGERS, great_receivers, is_in, plain_tone, small_receivers, some_bands
-from wrong import WRONG, assert_wrong_arguments, told_error
+from plain import (BIG, beyond_dials, great_receivers, is_in, plain_tone, small_receivers, some_bands,
+                   with_dial)
+from wrong import assert_wrong_arguments, assert_wrong_order, told_error
 
 PASSED, PLAIN = ([("dial", 0), ("pass", 3, 6), ("mix", 4)], None), ([("dial", 0)], 4)
 DEEP = ([("mix", 6), ("dial", -2), ("mix", 3), ("pass", 0, 8)], 5)
 UNDIALED = ([("mix", 5), ("pass", 0, 9)], 4)
-
-
-def with_dial(source, receiver):
-    """The receiver, with a dial stage put somewhere if it has none."""
-    stages = list(receiver[0])
-    if all(stage[0] != "dial" for stage in stages):
-        stages = stages[:7]
-        stages.insert(source.randint(0, len(stages)), ("dial", source.randint(-9, 9)))
-    return (stages, receiver[1])
-
-
-def beyond_dials(receiver, signal):
-    """A number up to which, and down to its negative, all turns of the dials lie."""
-    return signal + sum([abs(part) + 1 for stage in receiver[0] for part in stage[1:]]) + 1
 
 
 class Small(unittest.TestCase):
@@ -219,16 +206,7 @@ class Calls(unittest.TestCase):
 
     def test_a_greatest_dial_below_the_least_one(self):
         for receiver in (PASSED, DEEP, UNDIALED):
-            for least, greatest in [(1, 0), (0, -1), (5, -5), (-4, -5), (BIG, -BIG)]:
-                arguments = [receiver, 3, (0, 4), least, greatest]
-                self.assertEqual(told_error(count_dials, arguments), ("InvalidNumber", None))
-                for place, kind in enumerate(["receiver", "signal", "band"]):
-                    for value, told in WRONG[kind]:
-                        self.assertEqual(told_error(count_dials, arguments[:place] + [value] + arguments[place + 1:]),
-                                         told)
-            for wrong in WRONG_INTEGERS:
-                self.assertEqual(told_error(count_dials, (receiver, 3, (0, 4), wrong, -5)), ("InvalidDial", None))
-                self.assertEqual(told_error(count_dials, (receiver, 3, (0, 4), 5, wrong)), ("InvalidDial", None))
+            assert_wrong_order(self, count_dials, ["receiver", "signal", "band"], [receiver, 3, (0, 4)])
             if receiver != UNDIALED:
                 self.assertIsNone(told_error(count_dials, (receiver, 3, (0, 4), -5, -5)))
 

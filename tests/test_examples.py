@@ -118,6 +118,52 @@ DIALS = '''
 [4, -4, 500000000000000000000000000001]
 '''
 
+CLASHES = '''
+>>> from imagetones.clashes import count_clashes, next_clash
+>>> passed, plain, odd = ([("dial", 0), ("pass", 3, 6), ("mix", 4)], None), ([("dial", 0)], 4), ([("dial", 0)], 5)
+>>> [next_clash(passed, 10, 12, dial) for dial in (0, 8, 16)], count_clashes(passed, 10, 12, -100, 100)
+([7, 15, None], 2)
+>>> [next_clash(passed, 10, 10, 0), count_clashes(passed, 10, 10, -100, 100)]
+[4, 8]
+>>> [next_clash(plain, 10, 13, 0), next_clash(plain, 10, 12, 0), count_clashes(plain, 10, 12, -10 ** 30, 10 ** 30), next_clash(odd, 10, 13, 0)]
+[None, 1, 1000000000000000000000000000000, 4]
+'''
+
+SCANS = '''
+>>> from imagetones.scans import count_stops, first_stop, heard_there
+>>> receiver, signals = ([("dial", 0), ("pass", 3, 6), ("mix", 4)], None), [10, 12]
+>>> [first_stop(receiver, signals, (0, 0), dial, step) for dial, step in [(0, 1), (0, 4), (20, -1), (1, 10)]]
+[6, 2, 4, None]
+>>> [count_stops(receiver, signals, (0, 1), 0, step, many) for step, many in [(1, 20), (1, 7), (2, 10), (1, 0)]]
+[10, 2, 4, 0]
+>>> heard_there(receiver, [12, 30, 10], (0, 1), 7)
+[0, 2]
+
+>>> from imagetones.scans import count_stops, first_stop
+>>> receiver = ([("dial", 0)], 7)
+>>> [first_stop(receiver, [0], (0, 0), 1, step) for step in (3, 10 ** 20)], count_stops(receiver, [0], (0, 1), 0, 1, 10 ** 30)
+([2, 3], 428571428571428571428571428572)
+'''
+
+LOOKS = '''
+>>> from imagetones.looks import count_fits, next_fit, nth_fit
+>>> passed, plain = ([("dial", 0), ("pass", 3, 6), ("mix", 4)], None), ([("dial", 0)], 4)
+>>> [next_fit(passed, [(10, 0, 0)], signal) for signal in (0, 7, 15)], count_fits(passed, [(10, 0, 0)], 100)
+([6, 14, None], 2)
+>>> [nth_fit(passed, [(10, None, None), (12, 0, 2)], index) for index in range(5)]
+[8, 9, 17, 18, None]
+>>> looks = [(0, 1, 1), (1, 0, 0)]
+>>> [next_fit(plain, looks, 2), count_fits(plain, looks, 10 ** 30), nth_fit(plain, looks, 10 ** 29)]
+[5, 250000000000000000000000000000, 400000000000000000000000000001]
+
+>>> from imagetones.looks import clashing_looks
+>>> passed, plain = ([("dial", 0), ("pass", 3, 6), ("mix", 4)], None), ([("dial", 0)], 4)
+>>> [clashing_looks(passed, looks) for looks in ([(10, 0, 0)], [(10, 0, 0), (12, 0, 0)], [(10, 0, 0), (10, 7, 9)])]
+[None, [0, 1], [1]]
+>>> clashing_looks(plain, [(0, 1, 1), (1, 0, 0), (3, 0, 0)])
+[1, 2]
+'''
+
 
 def told_error(error):
     """An error as the document tells it: its name, and its fields in brackets."""
@@ -181,6 +227,15 @@ class Examples(unittest.TestCase):
 
     def test_dials(self):
         self.carry_out(DIALS)
+
+    def test_clashes(self):
+        self.carry_out(CLASHES)
+
+    def test_scans(self):
+        self.carry_out(SCANS)
+
+    def test_told_back(self):
+        self.carry_out(LOOKS)
 
     def test_the_runner_sees_wrong_answers(self):
         pairs = examples_of(">>> 1 + 1\n3\n\n>>> x = 4\n>>> x\n4\n")

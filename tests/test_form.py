@@ -29,6 +29,13 @@ INTERFACE = {
               "idle_stages": ["receiver", "dial"], "trimmed_receiver": ["receiver", "dial"]},
     "dials": {"next_dial": ["receiver", "signal", "band", "dial"], "last_dial": ["receiver", "signal", "band", "dial"],
               "count_dials": ["receiver", "signal", "band", "least", "greatest"]},
+    "clashes": {"next_clash": ["receiver", "one", "other", "dial"],
+                "count_clashes": ["receiver", "one", "other", "least", "greatest"]},
+    "scans": {"first_stop": ["receiver", "signals", "band", "dial", "step"],
+              "count_stops": ["receiver", "signals", "band", "dial", "step", "many"],
+              "heard_there": ["receiver", "signals", "band", "dial"]},
+    "looks": {"next_fit": ["receiver", "looks", "signal"], "count_fits": ["receiver", "looks", "far"],
+              "nth_fit": ["receiver", "looks", "index"], "clashing_looks": ["receiver", "looks"]},
 }
 LIBRARY = {"heapq": {"heappush", "heappop", "heapify", "heapreplace", "heappushpop"},
            "math": {"gcd", "lcm", "isqrt", "comb", "perm", "factorial"},
