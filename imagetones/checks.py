@@ -127,6 +127,12 @@ def check_natural(number):
         raise InvalidNumber("this number is an integer from 0 on")
 
 
+def check_positive(number):
+    """Raise InvalidNumber unless this is an integer from 1 on."""
+    if not is_natural(number) or number == 0:
+        raise InvalidNumber("this number is an integer from 1 on")
+
+
 def check_step(step):
     """Raise InvalidNumber unless this is an integer other than 0."""
     if not is_integer(step) or step == 0:

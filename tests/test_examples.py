@@ -164,6 +164,80 @@ LOOKS = '''
 [1, 2]
 '''
 
+PARTING = '''
+>>> from imagetones.parting import parting_dial, parting_way
+>>> receiver = ([("dial", 0), ("pass", 3, 6), ("mix", 4)], None)
+>>> [parting_dial(receiver, 10, 12, dial) for dial in (0, 7, 10, 19)]
+[4, 8, 13, None]
+>>> [parting_way(receiver, 10, 12, dial) for dial in (0, 7, 11, 19, 5)]
+[4, 1, 2, 1, 0]
+>>> [parting_dial(([("dial", 0)], 4), 1, other, -100) for other in (1, 4, 5)]
+[None, -100, None]
+'''
+
+LIVE = '''
+>>> from imagetones.live import LiveScanner
+>>> scanner = LiveScanner(([("dial", 0), ("pass", 3, 6), ("mix", 4)], None))
+>>> [scanner.dial, scanner.step, scanner.stations, scanner.tones, scanner.log, len(scanner)]
+[0, 1, [], [], [], 0]
+>>> [scanner.switch(12), scanner.switch(10), scanner.tune(5), scanner.stations, scanner.tones]
+[None, None, None, [10, 12], [1, None]]
+>>> [scanner.seek((0, 0)), scanner.dial, scanner.tones, scanner.go(2), scanner.dial, scanner.tones]
+[None, 6, [0, 2], None, 8, [None, 0]]
+>>> [scanner.set_step(-3), scanner.seek((0, 2)), scanner.dial, scanner.undo(), scanner.dial, len(scanner)]
+[None, None, 5, None, 8, 6]
+>>> other = scanner.fork()
+>>> [other == scanner, other.switch(10), other.stations, scanner.stations, other == scanner]
+[True, None, [12], [10, 12], False]
+>>> scanner.log
+[('switch', 12), ('switch', 10), ('tune', 5), ('seek', (0, 0)), ('go', 2), ('step', -3)]
+
+>>> from imagetones.live import LiveScanner
+>>> LiveScanner(([("mix", 5)], None))
+raises Impossible
+
+>>> from imagetones.live import LiveScanner
+>>> LiveScanner(([("dial", 0)], None)).seek((0, 5))
+raises Impossible
+'''
+
+TEXTS = '''
+>>> from imagetones.texts import format_looks, format_receiver
+>>> format_receiver(([("mix", 5), ("dial", -3), ("pass", 2, 9)], 4)), format_receiver(([("dial", 0)], None))
+('m5 d-3 p2..9 /4', 'd0')
+>>> format_looks([(10, 3, 6), (-4, None, None)])
+'10=3..6 -4=-'
+
+>>> from imagetones.texts import parse_looks, parse_receiver
+>>> parse_receiver("m5 d-3 p2..9 /4"), parse_looks("10=3..6 -4=-")
+(([('mix', 5), ('dial', -3), ('pass', 2, 9)], 4), [(10, 3, 6), (-4, None, None)])
+>>> parse_receiver("m5 d-3 p9..2")
+raises InvalidSyntax(word=2)
+>>> parse_receiver("/4")
+raises InvalidSyntax(word=0)
+>>> parse_looks("10=3..6 4")
+raises InvalidSyntax(word=1)
+'''
+
+CONSOLE = '''
+>>> from imagetones.console import Console
+>>> console = Console()
+>>> [console.execute(command) for command in ["tones", "receiver d0 p3..6 m4", "switch 10", "switch 12", "tune 7", "tones", "stations"]]
+['none', 'ok', 'ok', 'ok', 'ok', '1 1', '10 12']
+>>> [console.execute(command) for command in ["seek 0 0", "dial", "tones", "undo", "dial"]]
+['ok', '8', '- 0', 'ok', '7']
+>>> [console.execute(command) for command in ["tone 3", "tone 0", "slopes 20", "next 0 0 4", "images 3 20", "unlike d0 p3..6", "trimmed"]]
+['0', '-', '4', '11', '2', '1', 'd0 p3..6 m4']
+
+>>> from imagetones.console import Console
+>>> Console().execute("receiver m5")
+raises Impossible
+
+>>> from imagetones.console import Console
+>>> Console().execute("tune x")
+raises InvalidCommand
+'''
+
 
 def told_error(error):
     """An error as the document tells it: its name, and its fields in brackets."""
@@ -236,6 +310,18 @@ class Examples(unittest.TestCase):
 
     def test_told_back(self):
         self.carry_out(LOOKS)
+
+    def test_two_signals(self):
+        self.carry_out(PARTING)
+
+    def test_a_live_scanner(self):
+        self.carry_out(LIVE)
+
+    def test_texts(self):
+        self.carry_out(TEXTS)
+
+    def test_a_console(self):
+        self.carry_out(CONSOLE)
 
     def test_the_runner_sees_wrong_answers(self):
         pairs = examples_of(">>> 1 + 1\n3\n\n>>> x = 4\n>>> x\n4\n")

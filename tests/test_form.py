@@ -36,7 +36,19 @@ INTERFACE = {
               "heard_there": ["receiver", "signals", "band", "dial"]},
     "looks": {"next_fit": ["receiver", "looks", "signal"], "count_fits": ["receiver", "looks", "far"],
               "nth_fit": ["receiver", "looks", "index"], "clashing_looks": ["receiver", "looks"]},
+    "parting": {"parting_dial": ["receiver", "one", "other", "dial"],
+                "parting_way": ["receiver", "one", "other", "dial"]},
+    "live": {"LiveScanner": ["receiver"]},
+    "texts": {"format_receiver": ["receiver"], "format_looks": ["looks"], "parse_receiver": ["text"],
+              "parse_looks": ["text"]},
+    "console": {"Console": []},
 }
+CLASSES = {
+    "LiveScanner": {"tune": ["dial"], "set_step": ["step"], "go": ["many"], "switch": ["signal"], "seek": ["band"],
+                    "undo": [], "fork": [], "__len__": [], "__eq__": ["other"]},
+    "Console": {"execute": ["command"]},
+}
+PROPERTIES = {"LiveScanner": ["dial", "step", "stations", "tones", "log"], "Console": []}
 LIBRARY = {"heapq": {"heappush", "heappop", "heapify", "heapreplace", "heappushpop"},
            "math": {"gcd", "lcm", "isqrt", "comb", "perm", "factorial"},
            "itertools": {"product", "combinations", "permutations", "chain", "accumulate", "pairwise", "islice",
@@ -222,6 +234,46 @@ class Code(unittest.TestCase):
                 self.assertIn(node.right.value, range(65), name)
 
 
+class Changes(unittest.TestCase):
+    """What a reading tells of the rules over generators, kept sets and what properties may call."""
+
+    def test_no_generators_beside_a_class_that_compares(self):
+        self.assertEqual(nodes((ast.GeneratorExp, ast.Yield, ast.YieldFrom, ast.Global, ast.Nonlocal)), [])
+
+    def test_sets_stand_only_in_sorted(self):
+        inner = {id(node.args[0]) for _, node in nodes(ast.Call)
+                 if isinstance(node.func, ast.Name) and node.func.id == "sorted"}
+        for name, node in nodes((ast.Set, ast.SetComp)):
+            self.assertIn(id(node), inner, name)
+        for name, node in nodes(ast.Call):
+            if isinstance(node.func, ast.Name) and node.func.id in ("set", "frozenset"):
+                self.assertIn(id(node), inner, name)
+
+    def test_special_methods_and_properties_only_tell(self):
+        for name, node in nodes(ast.FunctionDef):
+            marks = [ast.unparse(mark) for mark in node.decorator_list]
+            if node.name in ("__eq__", "__len__") or marks:
+                kinds = [type(part) for part in node.body]
+                self.assertLessEqual(set(kinds), {ast.Expr, ast.Assign, ast.Return}, node.name)
+                targets = [part.ctx for part in ast.walk(node) if isinstance(part, (ast.Attribute, ast.Subscript))]
+                self.assertTrue(all(isinstance(ctx, ast.Load) for ctx in targets), node.name)
+
+    def test_keywords_of_builtins(self):
+        right = {"sorted": {"key", "reverse"}, "min": {"key", "default"}, "max": {"key", "default"},
+                 "sum": {"start"}, "enumerate": {"start"}, "zip": {"strict"}}
+        for name, node in nodes(ast.Call):
+            if isinstance(node.func, ast.Name) and node.func.id in dir(builtins):
+                self.assertLessEqual({word.arg for word in node.keywords}, right.get(node.func.id, set()), name)
+
+    def test_module_level_tables_hold_no_lists(self):
+        for name, tree in TREES.items():
+            for node in tree.body:
+                if isinstance(node, ast.Assign):
+                    inner = [part for part in ast.walk(node.value) if isinstance(part, (ast.List, ast.Dict, ast.Set))]
+                    self.assertLessEqual(len(inner), 1, name)
+                    self.assertTrue(not inner or inner[0] is node.value, name)
+
+
 class Interface(unittest.TestCase):
     def test_each_name_is_defined_in_its_file_with_its_arguments(self):
         for module, names in INTERFACE.items():
@@ -236,6 +288,23 @@ class Interface(unittest.TestCase):
                 else:
                     told = [part.arg for part in node.args.args]
                 self.assertEqual(told, arguments, name)
+
+    def test_each_method_and_property_is_defined_in_its_class(self):
+        classes = {node.name: node for _, node in nodes(ast.ClassDef)}
+        for name, methods in CLASSES.items():
+            found = {part.name: part for part in classes[name].body if isinstance(part, ast.FunctionDef)}
+            for method, arguments in methods.items():
+                self.assertEqual([part.arg for part in found[method].args.args[1:]], arguments, method)
+                self.assertEqual(found[method].decorator_list, [], method)
+            for word in PROPERTIES[name]:
+                self.assertEqual([ast.unparse(mark) for mark in found[word].decorator_list], ["property"], word)
+            public = {word for word in found if not word.startswith("_")}
+            self.assertEqual(public, {word for word in methods if not word.startswith("_")} | set(PROPERTIES[name]))
+
+    def test_there_is_nothing_else_to_call_under_the_names_of_the_interface(self):
+        for module, names in INTERFACE.items():
+            public = {name for name in defined_in(module) if not name.startswith("_")}
+            self.assertEqual(public, set(names), module)
 
 
 if __name__ == "__main__":
