@@ -86,7 +86,7 @@ class LiveScanner:
         index = first_stop(self._receiver, list(stations), band, ahead, step) if stations else None
         if index is None:
             raise Impossible("no station is found in the band")
-        self._keep(("seek", band), (ahead + index * step, step, stations))
+        self._keep(("seek", (band[0], band[1])), (ahead + index * step, step, stations))
 
     def undo(self):
         """Take back the last call that is not taken back yet."""

@@ -212,6 +212,15 @@ class Wrong(unittest.TestCase):
         self.assert_wrong(parse_receiver, "m5 /4 m5 /4 d01", 2)
         self.assert_wrong(parse_looks, "5=- 5=2..1 5 1=-", 1)
 
+    def assert_any(self, text, is_receiver_text):
+        """That a text is read as the patterns say: written again as it was, or wrong at a word."""
+        told = reads(parse_receiver if is_receiver_text else parse_looks, text)
+        index = plain_wrong_word(text, is_receiver_text)
+        if index is None:
+            self.assertEqual((format_receiver if is_receiver_text else format_looks)(told), text)
+        else:
+            self.assertEqual(told, ["wrong", index], text)
+
     def test_any_words(self):
         source = random.Random(225)
         pools = {
@@ -221,24 +230,14 @@ class Wrong(unittest.TestCase):
             for is_receiver_text, pool in pools.items():
                 weights = [6 if plain_wrong_word(word, is_receiver_text) is None else 1 for word in pool]
                 text = " ".join(source.choices(pool, weights, k=source.randint(1, 10)))
-                told = reads(parse_receiver if is_receiver_text else parse_looks, text)
-                index = plain_wrong_word(text, is_receiver_text)
-                if index is None:
-                    self.assertEqual((format_receiver if is_receiver_text else format_looks)(told), text)
-                else:
-                    self.assertEqual(told, ["wrong", index], text)
+                self.assert_any(text, is_receiver_text)
 
     def test_any_signs(self):
         source = random.Random(226)
         for _ in range(4000):
             for is_receiver_text, signs in [(True, "mmdp/..--0159  x"), (False, "===--..0159  x")]:
                 text = "".join(source.choices(signs, k=source.randint(1, 7)))
-                told = reads(parse_receiver if is_receiver_text else parse_looks, text)
-                index = plain_wrong_word(text, is_receiver_text)
-                if index is None:
-                    self.assertEqual((format_receiver if is_receiver_text else format_looks)(told), text)
-                else:
-                    self.assertEqual(told, ["wrong", index], text)
+                self.assert_any(text, is_receiver_text)
 
     def test_long_texts(self):
         for call in (parse_receiver, parse_looks):
